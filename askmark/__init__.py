@@ -1,0 +1,1 @@
+"""Askmark: pieces that ask the world, and hands that answer."""
