@@ -34,8 +34,10 @@ def checked_at(piece, level, told):
     if piece[0] == "name" and piece[1] not in told:
         raise BadName(f"no let or hand tells the name {piece[1]}")
     many = 1
-    for part, names in parts_with_names(piece, told):
-        many += checked_at(part, level + 1, names)
+    for at in places_of(piece):
+        name = told_at(piece, at)
+        names = told if name is None else told + (name,)
+        many += checked_at(piece[at], level + 1, names)
     return many
 
 
@@ -92,15 +94,16 @@ def is_kind(value):
     return type(value) is str and value in KINDS
 
 
-def parts_with_names(piece, told):
-    """List the pieces right within a piece of good form, each with the names told there."""
-    word = piece[0]
-    if word == "let":
-        return [(piece[2], told), (piece[3], told + (piece[1],))]
-    if word == "hand":
-        return [(piece[3], told + (piece[2],)), (piece[4], told)]
-    if word == "ask":
-        return [(piece[2], told)]
-    if word == "sum" or word == "choose":
-        return [(part, told) for part in piece[1:]]
-    return []
+def places_of(piece):
+    """List the indexes at which pieces stand right within a piece of good form."""
+    return [at for at, wanted in enumerate(FORMS[piece[0]], start=1) if wanted == "piece"]
+
+
+def told_at(piece, at):
+    """Tell the name that a piece tells in its part at this index; None where it tells none."""
+    # B of a let, A of a hand.
+    if piece[0] == "let" and at == 3:
+        return piece[1]
+    if piece[0] == "hand" and at == 3:
+        return piece[2]
+    return None

@@ -1,6 +1,6 @@
 """What several tests share: good pieces, wrong values, and the places where a piece may stand."""
 
-from askmark.pieces import checked
+from askmark.pieces import KINDS, checked
 
 NUM = ("num", 7)
 
@@ -141,3 +141,25 @@ def refusal_of(piece):
         return checked(piece)
     except Exception as error:
         return type(error)
+
+
+def ask(kind, number):
+    return ("ask", kind, ("num", number))
+
+
+def hand(kind, answer, body, name="told"):
+    return ("hand", kind, name, answer, body)
+
+
+def next_places(kind):
+    """The places at which a part is next, each with what it is called. No hand among them is for this kind."""
+    yield "alone", lambda part: part
+    for place in ["A of a sum", "B of a sum", "A of a let", "A of a choose", "A of an ask"]:
+        yield place, PLACES[place]
+    yield "A of a sum, ahead of an ask", lambda part: ("sum", part, ask("coin", 8))
+    for other in KINDS:
+        yield f"A of an ask for {other}", lambda part, other=other: ("ask", other, part)
+        if other != kind:
+            yield f"B of a hand for {other}", lambda part, other=other: hand(other, NUM, part)
+            yield f"B of a hand for {other} that asks", (
+                lambda part, other=other: hand(other, ask(kind, 9), part))

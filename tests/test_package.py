@@ -7,15 +7,37 @@ import unittest
 PACKAGE = pathlib.Path(__file__).resolve().parent.parent / "askmark"
 FILES = sorted(PACKAGE.glob("*.py"))
 
-# What the interface lists, by file.
+# What the interface lists, by file: classes without arguments, and others with them.
 INTERFACE = {
-    "errors.py": ["AskError", "BadPiece", "BadName", "TooTall"],
-    "pieces.py": ["checked"],
+    "errors.py": {"AskError": None, "BadPiece": None, "BadName": None, "TooTall": None},
+    "pieces.py": {"checked": ["piece"]},
+    "marks.py": {"marks": ["piece"]},
+    "steps.py": {
+        "put_in": ["piece", "name", "number"],
+        "stands_at": ["piece"],
+        "step": ["piece"],
+        "answered": ["piece", "number"],
+        "by_steps": ["piece", "lines", "coins"],
+    },
+    "carrying.py": {"Run": None, "carried": ["piece", "lines", "coins"]},
 }
 
 
 def tree_of(file):
     return ast.parse(file.read_text(encoding="utf-8"))
+
+
+def arguments_of(node):
+    """The arguments of a function that has plain ones without default values alone; None of a class."""
+    if isinstance(node, ast.ClassDef):
+        return None
+    told = [argument.arg for argument in node.args.args]
+    return told if ast.unparse(node.args) == ", ".join(told) else ast.unparse(node.args)
+
+
+def defined_in(body):
+    """The functions and classes that are defined there, with their arguments."""
+    return {node.name: arguments_of(node) for node in body if isinstance(node, (ast.FunctionDef, ast.ClassDef))}
 
 
 class PackageTest(unittest.TestCase):
@@ -26,10 +48,15 @@ class PackageTest(unittest.TestCase):
 
     def test_the_interface_is_defined_in_its_files(self):
         for name, listed in INTERFACE.items():
-            defined = [node.name for node in tree_of(PACKAGE / name).body
-                       if isinstance(node, (ast.FunctionDef, ast.ClassDef))]
+            defined = defined_in(tree_of(PACKAGE / name).body)
             with self.subTest(file=name):
-                self.assertEqual([word for word in listed if word not in defined], [])
+                self.assertEqual({word: defined.get(word, "missing") for word in listed}, listed)
+
+    def test_what_a_run_has_is_defined_in_its_class(self):
+        run = next(node for node in tree_of(PACKAGE / "carrying.py").body if isinstance(node, ast.ClassDef))
+        self.assertEqual((run.name, run.bases), ("Run", []))
+        defined = defined_in(run.body)
+        self.assertEqual((defined["__init__"], defined["go_on"]), (["self", "piece"], ["self", "number"]))
 
     def test_plain_characters_and_sizes(self):
         for file in FILES:
